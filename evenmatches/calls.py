@@ -1,14 +1,19 @@
 """The calls: each reads its numbers, then is refused with all as it was, or carried out."""
 
-from evenmatches.matching import let_ticks_go_by
+from evenmatches.halves import halves_apart, most_even_half
+from evenmatches.matching import Pairing, best_match, first_unwilling, let_ticks_go_by, members_of
 from evenmatches.refusals import no_place, none_of_that_number, not_so, not_the_time, out_of_range
-from evenmatches.results import end_match, loss_of, pay_fine
-from evenmatches.world import TOP, Party, Player, Rules, ladder_of, numbers_of, plays, waits, window_of
+from evenmatches.results import DRAW, FIRST_WON, SECOND_WON, end_match, expectation, free_move, loss_of, pay_fine
+from evenmatches.season import end_season
+from evenmatches.world import (
+    TOP, Party, Player, Rules, ladder_of, numbers_of, plays, rating_total, waits, window_of,
+)
 
 MOST_NUMBER = 999
 MOST_PLAYERS = 24
 MOST_PARTIES = 12
 MOST_TICKS = 50
+MOST_SPLIT = 10
 LAST_TICK = 1000000
 MILLION = 1000000
 
@@ -85,6 +90,14 @@ def call_unqueue(world, reader):
     return [0]
 
 
+def shown_matches(games):
+    shown = []
+    for game in games:
+        shown.append(game.number)
+        shown.extend(numbers_of(game.first + game.second))
+    return shown
+
+
 def call_tick(world, reader):
     ticks = reader.take_whole()
     if not within(ticks, 1, MOST_TICKS):
@@ -92,11 +105,7 @@ def call_tick(world, reader):
     if world.tick + ticks > LAST_TICK:
         return no_place()
     made = let_ticks_go_by(world, ticks)
-    answer = [0, world.tick]
-    for game in made:
-        answer.append(game.number)
-        answer.extend(numbers_of(game.first + game.second))
-    return answer
+    return [0, world.tick] + shown_matches(made)
 
 
 def call_result(world, reader):
@@ -152,6 +161,109 @@ def call_entries(world, reader):
     return answer
 
 
+def call_matches(world, reader):
+    return [0] + shown_matches(list(world.matches.values()))
+
+
+def are_ratings(row):
+    return all([within(rating, 0, TOP) for rating in row])
+
+
+def is_side_of_ratings(row, side):
+    return len(row) == side and are_ratings(row)
+
+
+def call_expect(world, reader):
+    first = reader.take_row()
+    second = reader.take_row()
+    rules = world.rules
+    if not (is_side_of_ratings(first, rules.side) and is_side_of_ratings(second, rules.side)):
+        return out_of_range()
+    moves = [free_move(rules, first, second, came) for came in (FIRST_WON, DRAW, SECOND_WON)]
+    return [0] + expectation(rules, first, second) + moves
+
+
+def judgement(world, first, second):
+    side = world.rules.side
+    if len(members_of(first)) != side or len(members_of(second)) != side:
+        return [0, 1]
+    unwilling = first_unwilling(world, first + second)
+    if unwilling is not None:
+        return [0, 2, unwilling.number]
+    pairing = Pairing(first, second, world.tick)
+    return [1, pairing.uneven, pairing.waited]
+
+
+def call_judge(world, reader):
+    first = reader.take_row()
+    second = reader.take_row()
+    both = first + second
+    if any([number not in world.parties for number in both]):
+        return none_of_that_number()
+    if len(set(both)) < len(both):
+        return not_so()
+    first_side = [world.parties[number] for number in first]
+    second_side = [world.parties[number] for number in second]
+    return [0] + judgement(world, first_side, second_side)
+
+
+def call_best(world, reader):
+    number = reader.take_whole()
+    if number not in world.parties:
+        return none_of_that_number()
+    best = best_match(world, world.parties[number])
+    if best is None:
+        return [0, 0]
+    told = [0, 1, best.uneven, best.waited, len(best.first)]
+    return told + numbers_of(best.first + best.second)
+
+
+def call_season(world, reader):
+    if len(world.matches) > 0:
+        return not_the_time()
+    end_season(world)
+    return [0, world.season, world.pool]
+
+
+def call_sums(world, reader):
+    return [0, rating_total(world), world.pool, len(world.players)]
+
+
+def is_split_row(row):
+    return len(row) <= MOST_SPLIT and len(row) % 2 == 0 and are_ratings(row)
+
+
+def call_split(world, reader):
+    row = reader.take_row()
+    if not is_split_row(row):
+        return out_of_range()
+    half = most_even_half(row)
+    return [0, halves_apart(row, half)] + half
+
+
+def call_window(world, reader):
+    number = reader.take_whole()
+    if number not in world.parties:
+        return none_of_that_number()
+    return [0, window_of(world, world.parties[number])]
+
+
+def call_state(world, reader):
+    counts = [len(world.players), len(world.parties), len(world.matches)]
+    return [0, world.tick] + counts + [world.upcoming, world.pool, world.season]
+
+
+def call_remove(world, reader):
+    number = reader.take_whole()
+    if number not in world.players:
+        return none_of_that_number()
+    if waits(world, number) or plays(world, number):
+        return not_the_time()
+    gone = world.players.pop(number)
+    world.pool += gone.rating
+    return [0, gone.rating]
+
+
 CALLS = (
     call_begin,
     call_player,
@@ -163,6 +275,16 @@ CALLS = (
     call_rating,
     call_ladder,
     call_entries,
+    call_matches,
+    call_expect,
+    call_judge,
+    call_best,
+    call_season,
+    call_sums,
+    call_split,
+    call_window,
+    call_state,
+    call_remove,
 )
 
 

@@ -68,6 +68,15 @@ def taken_since(rules, party, total):
     return party.since + max(0, rounded_up(lacking, rules.step))
 
 
+def first_unwilling(world, parties):
+    """The first of the parties that doesn't take a match of them all now, or None."""
+    total = rating_sum(parties)
+    for party in parties:
+        if taken_since(world.rules, party, total) > world.tick:
+            return party
+    return None
+
+
 def playable_since(rules, parties):
     """The tick from which all these parties take a match of them all."""
     total = rating_sum(parties)
@@ -81,7 +90,7 @@ def pairings_of(world, party):
     others = parties_without(list(world.parties.values()), [party])
     pairings = []
     for taken in ways_to_take(others, 2 * side - size):
-        if playable_since(world.rules, [party] + taken) <= world.tick:
+        if first_unwilling(world, [party] + taken) is None:
             for mates in ways_to_take(taken, side - size):
                 pairings.append(Pairing([party] + mates, parties_without(taken, mates), world.tick))
     return pairings

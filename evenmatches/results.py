@@ -3,6 +3,7 @@
 from evenmatches.world import TOP, numbers_of, ratings_of
 
 SECOND_WON = 0
+DRAW = 1
 FIRST_WON = 2
 
 
@@ -23,6 +24,25 @@ def free_move(rules, first, second, came):
     share = rules.factor * (came * far - expected(rules, first, second))
     # Half the divisor on top, then rounding down: so a half goes up below 0 too.
     return (share + far) // (2 * far)
+
+
+def common_divisor(one, other):
+    while other > 0:
+        rest = one % other
+        one = other
+        other = rest
+    return one
+
+
+def lowest_terms(above, below):
+    """The fraction's two numbers without what divides both."""
+    divisor = common_divisor(above, below)
+    return [above // divisor, below // divisor]
+
+
+def expectation(rules, first, second):
+    """What the first side may expect as a fraction: two numbers in lowest terms."""
+    return lowest_terms(expected(rules, first, second), 2 * far_of(rules))
 
 
 def held_move(rules, first, second, came):

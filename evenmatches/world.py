@@ -63,12 +63,17 @@ def window_of(world, party):
     return world.rules.base + world.rules.step * (world.tick - party.since)
 
 
-def numbers_of(players):
-    return [player.number for player in players]
+def numbers_of(row):
+    """The numbers of players, or of parties."""
+    return [one.number for one in row]
 
 
 def ratings_of(players):
     return [player.rating for player in players]
+
+
+def rating_total(world):
+    return sum([player.rating for player in world.players.values()])
 
 
 def waits(world, number):

@@ -46,6 +46,46 @@ def entries():
     return [9]
 
 
+def matches():
+    return [10]
+
+
+def expect(first, second):
+    return [11, len(first), *first, len(second), *second]
+
+
+def judge(first, second):
+    return [12, len(first), *first, len(second), *second]
+
+
+def best(party):
+    return [13, party]
+
+
+def season():
+    return [14]
+
+
+def sums():
+    return [15]
+
+
+def split(*ratings):
+    return [16, len(ratings), *ratings]
+
+
+def window(party):
+    return [17, party]
+
+
+def state():
+    return [18]
+
+
+def remove(who):
+    return [19, who]
+
+
 def taken_apart(given):
     """The answers, one list a call."""
     apart = []
@@ -80,5 +120,5 @@ def queues(*numbers):
 
 
 def all_seen(numbers):
-    """Calls that show all that can be seen of these players and the parties."""
-    return [ladder(), entries()] + [rating(number) for number in numbers]
+    """Calls that show all that can be seen of these players, the parties and the matches."""
+    return [ladder(), entries(), matches(), sums(), state()] + [rating(number) for number in numbers]

@@ -1,7 +1,7 @@
 """The document's words done step by step, without regard to time, to hold the program against."""
 
 from fractions import Fraction
-from itertools import product
+from itertools import combinations, product
 from math import floor
 
 TOP = 10000000
@@ -15,6 +15,7 @@ class Model:
         self.side, self.base, self.step, self.factor, self.reach, self.fine = rules
         self.now = 0
         self.pool = 0
+        self.era = 1
         self.upcoming = 1
         self.people = {}
         self.waiting = []
@@ -30,16 +31,19 @@ class Model:
     def ratings(self, row):
         return [self.people[who]["rating"] for party in row for who in party["who"]]
 
+    def fit(self, first, second):
+        return all(len(self.ratings(row)) == self.side for row in (first, second))
+
+    def takes(self, party, everyone):
+        own = self.ratings([party])
+        apart = abs(Fraction(sum(everyone), len(everyone)) - Fraction(sum(own), len(own)))
+        return apart <= self.window(party)
+
     def may_play(self, first, second):
-        if any(len(self.ratings(row)) != self.side for row in (first, second)):
+        if not self.fit(first, second):
             return False
         everyone = self.ratings(first + second)
-        mean = Fraction(sum(everyone), len(everyone))
-        for party in first + second:
-            own = self.ratings([party])
-            if abs(mean - Fraction(sum(own), len(own))) > self.window(party):
-                return False
-        return True
+        return all(self.takes(party, everyone) for party in first + second)
 
     def value(self, first, second):
         uneven = abs(sum(self.ratings(first)) - sum(self.ratings(second)))
@@ -77,12 +81,19 @@ class Model:
     def any_may_play(self):
         return any(self.best(e) is not None for e in self.waiting)
 
+    def expected(self, first, second):
+        far = self.reach * self.side
+        return far + min(far, max(-far, sum(first) - sum(second)))
+
+    def moved(self, first, second, came):
+        far = self.reach * self.side
+        exact = Fraction(self.factor * (came * far - self.expected(first, second)), 2 * far)
+        return floor(exact + Fraction(1, 2))
+
     def end(self, number, came):
         sides = [[self.people[who] for who in side] for side in self.matches.pop(number)]
         first, second = [[person["rating"] for person in side] for side in sides]
-        far = self.reach * self.side
-        d = min(far, max(-far, sum(first) - sum(second)))
-        moved = floor(Fraction(self.factor * (came * far - (far + d)), 2 * far) + Fraction(1, 2))
+        moved = self.moved(first, second, came)
         if moved > 0:
             moved = min(moved, min(second), TOP - max(first))
         if moved < 0:
@@ -106,7 +117,11 @@ class Model:
 
     def told(self, call):
         """What is answered to one call."""
-        told = call[2:] if call[0] == 2 else call[1:]
+        told = call[1:]
+        if call[0] in (2, 16):
+            told = call[2:]
+        if call[0] in (11, 12):
+            told = [call[2:2 + call[1]], call[3 + call[1]:]]
         return getattr(self, "call_" + str(call[0]))(*told)
 
     def call_0(self, *rules):
@@ -199,3 +214,101 @@ class Model:
         for party in self.waiting:
             answer += [party["number"], party["since"], self.window(party), len(party["who"])] + party["who"]
         return answer
+
+    def call_10(self):
+        answer = [0]
+        for number, (first, second) in self.matches.items():
+            answer += [number] + first + second
+        return answer
+
+    def call_11(self, first, second):
+        for row in (first, second):
+            if len(row) != self.side or any(not 0 <= value <= TOP for value in row):
+                return [-1]
+        share = Fraction(self.expected(first, second), 2 * self.reach * self.side)
+        moves = [self.moved(first, second, came) for came in (2, 1, 0)]
+        return [0, share.numerator, share.denominator] + moves
+
+    def call_12(self, *rows):
+        waiting = {party["number"]: party for party in self.waiting}
+        if any(number not in waiting for row in rows for number in row):
+            return [-2]
+        if len(set(rows[0] + rows[1])) != len(rows[0] + rows[1]):
+            return [-4]
+        first, second = [[waiting[number] for number in row] for row in rows]
+        if not self.fit(first, second):
+            return [0, 0, 1]
+        everyone = self.ratings(first + second)
+        for party in first + second:
+            if not self.takes(party, everyone):
+                return [0, 0, 2, party["number"]]
+        uneven, negative_wait = self.value(first, second)
+        return [0, 1, uneven, -negative_wait]
+
+    def call_13(self, number):
+        for party in self.waiting:
+            if party["number"] == number:
+                best = self.best(party)
+                if best is None:
+                    return [0, 0]
+                (uneven, negative_wait), first, second = best
+                names = [one["number"] for one in first + second]
+                return [0, 1, uneven, -negative_wait, len(first)] + names
+        return [-2]
+
+    def call_14(self):
+        if self.matches:
+            return [-3]
+        self.era += 1
+        if self.people:
+            self.end_season()
+        return [0, self.era, self.pool]
+
+    def end_season(self):
+        ladder = self.call_8()[1::2]
+        n = len(ladder)
+        together = sum(person["rating"] for person in self.people.values())
+        given = min(self.pool, n * TOP - together)
+        self.pool -= given
+        for person in self.people.values():
+            person["rating"] = floor(Fraction(person["rating"] * n + together, 2 * n))
+            person["games"] = person["wins"] = 0
+        left = given + together - sum(person["rating"] for person in self.people.values())
+        for place, who in enumerate(ladder):
+            self.people[who]["rating"] += left // n + (1 if place < left % n else 0)
+        for person in self.people.values():
+            self.pool += max(0, person["rating"] - TOP)
+            person["rating"] = min(person["rating"], TOP)
+
+    def call_15(self):
+        return [0, self.total() - self.pool, self.pool, len(self.people)]
+
+    def call_16(self, *row):
+        if len(row) > 10 or len(row) % 2 or any(not 0 <= value <= TOP for value in row):
+            return [-1]
+        best = None
+        for half in combinations(range(len(row)), len(row) // 2):
+            other = [place for place in range(len(row)) if place not in half]
+            apart = abs(sum(row[place] for place in half) - sum(row[place] for place in other))
+            if best is None or apart < best[0]:
+                best = (apart, half)
+        return [0, best[0], *best[1]]
+
+    def call_17(self, number):
+        for party in self.waiting:
+            if party["number"] == number:
+                return [0, self.window(party)]
+        return [-2]
+
+    def call_18(self):
+        counts = [len(self.people), len(self.waiting), len(self.matches)]
+        return [0, self.now, *counts, self.upcoming, self.pool, self.era]
+
+    def call_19(self, who):
+        if who not in self.people:
+            return [-2]
+        if self.whereabouts(who):
+            return [-3]
+        rating = self.people.pop(who)["rating"]
+        self.pool += rating
+        return [0, rating]
